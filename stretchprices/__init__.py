@@ -1,0 +1,1 @@
+"""Stretchprices: what prices of stretches of rows can know of a machine's time."""

@@ -2,14 +2,19 @@
 
 import itertools
 import random
+from fractions import Fraction
 
 from stretchprices import errors
 from stretchprices.machines import Machine
 from stretchprices.rigs import Rig
+from stretchprices.stretches import Prices, all_stretches
 
 M = Machine("ab", 1, ((((1, 0),), ((1, 1),)), (((2, 0),), ((1, 1),))))
 N = Machine("ab", 1, ((((1, 0),), ((1, 0),)),))
 X = Machine("a", 2, ((((1, 1), (2, 0)),), (((9, 0), (1, 0)),)))
+# For the width 3 the one has 300 places, the other 301.
+ENOUGH = Rig("abcd", 2, (20,) * 4, (("kept", (0, 1, None, 3), 1, 1), ("guess", "b", 2, 1), ("guess", "cd", 2, 1)))
+MANY = Rig("abcd", 2, (20,) * 4, (("buffer", "abcd", 3, 1), ("guess", "abcd", 2, 2), ("guess", "bc", 2, 1)))
 
 
 def deep(kind, inside=1, times=39):
@@ -19,6 +24,30 @@ def deep(kind, inside=1, times=39):
     return inside
 
 
+def drawn_prices(seed, rows="ab", width=2, bottoms=(1, 2, 3, 7)):
+    """Prices that are drawn, of all signs."""
+    draw = random.Random(seed)
+    table = {name: pair(Fraction(draw.randint(-9, 9), draw.choice(bottoms))) for name in all_stretches(rows, width)}
+    return Prices(rows, width, table)
+
+
+def pair(value):
+    """A fraction as the program writes it."""
+    value = Fraction(value)
+    return value.numerator, value.denominator
+
+
+def slow_stretches(code, width):
+    """The stretches of a code, by the words of the document."""
+    ends = [code[:end] for end in range(1, len(code) + 1)]
+    return [head[-width:] if len(head) >= width else "^" + head for head in ends]
+
+
+def slow_price(prices, code):
+    """The price of a code as a Fraction."""
+    return sum((Fraction(*prices.table[name]) for name in slow_stretches(code, prices.width)), Fraction(0))
+
+
 def odd_things():
     """Things of many kinds that are no number, string, tuple or dict of any use."""
     return [
@@ -26,7 +55,8 @@ def odd_things():
         bytearray(b"ab"), memoryview(b"ab"), [], ["a"], [[]], (), ("a",), ((),), {}, {"a": 1}, {(): ()}, {None: {}},
         range(3), slice(3), Ellipsis, NotImplemented, len, int, object(), iter([]), (k for k in []), lambda: 0,
         deep("tuple"), deep("list"), deep("dict"), deep("tuple", ()), ("gap",) * 10000, [0] * 9999, ((0,),) * 5000,
-        M, N, Machine, Rig("a", 1, (1,), ()), errors.BadMachine("rows"), errors.NoRun, errors.NoRun(), ValueError("a"),
+        M, N, Prices("a", 1, {"a": (1, 1)}), Rig("a", 1, (1,), ()), Machine, Prices, Rig,
+        errors.BadMachine("rows"), errors.NoRun, errors.NoRun(), ValueError("a"),
     ]
 
 

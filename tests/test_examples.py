@@ -2,8 +2,11 @@
 
 import unittest
 
+from stretchprices.books import book, is_lots
 from stretchprices.machines import Machine, ticks
 from stretchprices.rigs import Rig, machine_of
+from stretchprices.stretches import stretches
+from stretchprices.webs import pieces, places
 
 m = Machine("ab", 1, ((((1, 0),), ((1, 1),)), (((2, 0),), ((1, 1),))))
 n = Machine("ab", 1, ((((1, 0),), ((1, 0),)),))
@@ -19,6 +22,21 @@ class ExamplesTest(unittest.TestCase):
 
     def test_e01(self):
         self.assertEqual(ticks(m, ("aba", (0, 0, 0))), 4)
+
+    def test_e02(self):
+        self.assertEqual(stretches("aba", 2), ["^a", "ab", "ba"])
+
+    def test_e03(self):
+        self.assertEqual(places(m, 2), [(0, "^"), (0, "a"), (1, "b")])
+        self.assertEqual(pieces(m, 2), [(1, 2)])
+
+    def test_e04(self):
+        self.assertIsNone(book(m, 1))
+
+    def test_e05(self):
+        one = {((0, ""), "b", 0): 1, ((1, ""), "a", 0): 1}
+        other = {((0, ""), "a", 0): 1, ((1, ""), "b", 0): 1}
+        self.assertIs(is_lots(m, 1, (one, other)), True)
 
     def test_e11(self):
         self.assertIs(machine_of(Rig("ab", 1, (1, 1), (("gap", "b", "a", 1),))) == m, True)

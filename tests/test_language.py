@@ -8,11 +8,11 @@ import unittest
 
 FOLDER = pathlib.Path(__file__).resolve().parent.parent / "stretchprices"
 FILES = sorted(path for path in FOLDER.iterdir() if path.name != "__pycache__")
-BUILTINS = """len range enumerate zip min max sum abs sorted reversed int str bool bytes list tuple dict set isinstance ord
-repr any all divmod Exception ValueError TypeError KeyError IndexError LookupError""".split()
-METHODS = """append clear copy count endswith extend find get index insert isalnum isalpha isdigit islower isspace isupper
-items join keys ljust lower lstrip partition pop remove replace reverse rfind rjust rpartition rsplit rstrip setdefault
-split splitlines startswith strip update upper values zfill bit_length""".split()
+BUILTINS = """len range enumerate zip min max sum abs sorted reversed int str bool bytes list tuple dict set isinstance
+ord repr any all divmod property Exception ValueError TypeError KeyError IndexError LookupError""".split()
+METHODS = """append clear copy count endswith extend find get index insert isalnum isalpha isdigit islower isspace
+isupper items join keys ljust lower lstrip partition pop remove replace reverse rfind rjust rpartition rsplit rstrip
+setdefault split splitlines startswith strip update upper values zfill bit_length""".split()
 WORDS = """typing typing_extensions enum Enum IntEnum StrEnum Flag IntFlag Generic Protocol ABC ABCMeta namedtuple
 NamedTuple TypedDict TYPE_CHECKING abstractmethod type dataclass overload contextmanager _wall _WallAttr eval exec open
 input register elements law mro""".split()

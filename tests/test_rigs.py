@@ -86,6 +86,11 @@ class RigTest(unittest.TestCase):
         self.assertEqual(raised(Rig, "bx", 1, (1, 1), (("gap", "bx", "a", 1),)), bad("parts"))
         self.assertEqual(raised(Rig, "bx", 1, (1, 1), (("couple", ("bb", "ab"), 1),)), bad("parts"))
 
+    def test_at_most_four_couples(self):
+        pairs = ("aa", "ab", "bc", "cc", "ca")
+        self.assertIsNone(raised(Rig, "abc", 1, (9, 9, 9), (("couple", pairs[:4], 1),)))
+        self.assertEqual(raised(Rig, "abc", 1, (9, 9, 9), (("couple", pairs, 1),)), bad("parts"))
+
     def test_at_most_three_parts(self):
         part = LET["gap"][0]
         for many in range(7):

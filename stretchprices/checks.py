@@ -1,5 +1,7 @@
 """Whether things are of the plain kinds that the whole package asks for."""
 
+from stretchprices.errors import NoNumber
+
 LETTERS = "abcdefghijklmnopqrstuvwxyz"
 
 
@@ -53,3 +55,15 @@ def is_run(thing, rows, answers):
     if not is_code(code, rows) or not is_tuple(told, len(code)):
         return False
     return all([is_between(answer, 0, answers - 1) for answer in told])
+
+
+def check_integer(thing):
+    """Raise the error for what is no integer."""
+    if not is_integer(thing):
+        raise NoNumber()
+
+
+def check_amount(thing):
+    """Raise the error for what is no integer from 0 to 10 ** 30."""
+    if not is_between(thing, 0, 10 ** 30):
+        raise NoNumber()

@@ -50,13 +50,13 @@ class System:
         equation = (sums, right, {number: 1})
         for unknown in sums:
             if unknown in self.solved:
-                equation = _without(equation, self.solved[unknown], unknown)
+                equation = without(equation, self.solved[unknown], unknown)
         if not equation[0]:
             return equation[2]
         # A small number ahead of the unknown keeps all numbers small.
         chosen = min([(abs(equation[0][unknown]), unknown) for unknown in equation[0]])[1]
         for unknown in list(self.solved):
-            self.solved[unknown] = _without(self.solved[unknown], equation, chosen)
+            self.solved[unknown] = without(self.solved[unknown], equation, chosen)
         self.solved[chosen] = equation
         self._work_out()
         return None
@@ -77,7 +77,7 @@ class System:
             self.tops[unknown] = right * (bottom // sums[unknown])
 
 
-def _without(equation, other, unknown):
+def without(equation, other, unknown):
     """The equation with so much of the other one that the unknown is not in it any more."""
     few = equation[0].get(unknown, 0)
     if few == 0:

@@ -152,7 +152,7 @@ def _unlike_steps(one, other, pair):
 
 def smallest(machine):
     """The machine with as few standings as possible that is alike to this one."""
-    order = list(earliest(0, lambda here: _onward(machine, here)))
+    order = list(earliest(0, lambda here: steps_at(machine, here)))
     kinds = _kinds(machine, order)
     # The standings come in the order of their earliest runs, so the first one of a kind gives the kind its number.
     first = {}
@@ -164,7 +164,7 @@ def smallest(machine):
     return grown(machine.rows, machine.answers, moves)
 
 
-def _onward(machine, here):
+def steps_at(machine, here):
     """The steps from a standing as triples (row, answer, standing behind)."""
     found = []
     for at, row in enumerate(machine.rows):

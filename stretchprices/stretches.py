@@ -41,10 +41,10 @@ def stretches(code, width):
     """The list of the stretches of a code, one that ends with each row."""
     check_code(code, LETTERS)
     check_width(width)
-    return [_stretch_at(code, end, width) for end in range(1, len(code) + 1)]
+    return [stretch_at(code, end, width) for end in range(1, len(code) + 1)]
 
 
-def _stretch_at(code, end, width):
+def stretch_at(code, end, width):
     """The stretch that ends ahead of this place of the code."""
     if end < width:
         return "^" + code[:end]

@@ -2,6 +2,7 @@
 
 from stretchprices.checks import is_integer, is_tuple
 from stretchprices.errors import TooMany
+from stretchprices.ratios import is_fraction
 from stretchprices.stretches import check_width, first_tail, tail_behind
 from stretchprices.walks import earliest
 
@@ -11,9 +12,14 @@ MOST_PLACES = 300
 def places(machine, width):
     """The list of all places to which runs lead, in the order of the earliest runs."""
     check_width(width)
+    return places_up_to(machine, width, MOST_PLACES)
+
+
+def places_up_to(machine, width, most):
+    """The list of all places to which runs lead, if there are at most so many."""
     found = list(earliest((0, first_tail(width)), lambda place: _onward(machine, width, place)))
-    if len(found) > MOST_PLACES:
-        raise TooMany(MOST_PLACES)
+    if len(found) > most:
+        raise TooMany(most)
     return found
 
 
@@ -31,6 +37,11 @@ def inside(machine, width):
         steps = [step for place in members for step in steps_from(machine, width, place) if step[3] in members]
         found.append((list(members), steps))
     return found
+
+
+def inner_steps(machine, width):
+    """A dict from the steps inside pieces to what they do, as steps_from tells it."""
+    return {step[0]: step for _, inner in inside(machine, width) for step in inner}
 
 
 def steps_from(machine, width, place):
@@ -54,6 +65,14 @@ def is_place(thing):
 def is_step(thing):
     """Whether it has the form of a step."""
     return is_tuple(thing, 3) and is_place(thing[0]) and isinstance(thing[1], str) and is_integer(thing[2])
+
+
+def are_heights(thing, spots):
+    """Whether it is a dict from exactly these places to fractions."""
+    # A flag is found in a dict where a number stands, so that the form of each key is looked at, too.
+    if not isinstance(thing, dict) or len(thing) != len(spots) or not all([is_place(place) for place in thing]):
+        return False
+    return all([place in thing and is_fraction(thing[place]) for place in spots])
 
 
 def _onward(machine, width, place):

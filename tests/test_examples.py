@@ -2,8 +2,13 @@
 
 import unittest
 
+from stretchprices.best import best
 from stretchprices.books import book, is_lots
+from stretchprices.exact import exact, least_exact
+from stretchprices.leads import ahead, lead
 from stretchprices.machines import Machine, ticks
+from stretchprices.odd import odd
+from stretchprices.rates import one_number, rate
 from stretchprices.rigs import Rig, machine_of
 from stretchprices.stretches import stretches
 from stretchprices.webs import pieces, places
@@ -37,6 +42,25 @@ class ExamplesTest(unittest.TestCase):
         one = {((0, ""), "b", 0): 1, ((1, ""), "a", 0): 1}
         other = {((0, ""), "a", 0): 1, ((1, ""), "b", 0): 1}
         self.assertIs(is_lots(m, 1, (one, other)), True)
+
+    def test_e06(self):
+        self.assertEqual(exact(m, 2).table["ba"], (2, 1))
+        self.assertEqual(least_exact(m), 2)
+
+    def test_e07(self):
+        self.assertEqual(best(m, 2)[0], (0, 1))
+
+    def test_e08(self):
+        self.assertEqual(lead(m, 1, 0)[:2], ("most", 1))
+        self.assertEqual(ahead(m, n)[0], "round")
+
+    def test_e09(self):
+        self.assertEqual(rate(m, n)[0], (3, 2))
+        self.assertEqual(rate(n, m)[0], (1, 1))
+        self.assertEqual(one_number(m, n)[0], "two")
+
+    def test_e10(self):
+        self.assertEqual(odd(x)[0][0], "aa")
 
     def test_e11(self):
         self.assertIs(machine_of(Rig("ab", 1, (1, 1), (("gap", "b", "a", 1),))) == m, True)

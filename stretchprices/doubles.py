@@ -1,8 +1,7 @@
 """Pairs of standings to which runs lead whose codes end alike, and how long alike."""
 
-from stretchprices.machines import steps_at
+from stretchprices.machines import standing_runs
 from stretchprices.pairs import any_answers, pair_steps
-from stretchprices.walks import earliest
 from stretchprices.ways import reach
 
 
@@ -17,7 +16,7 @@ class Doubles:
     """
 
     def __init__(self, machine):
-        self.runs = earliest(0, lambda here: steps_at(machine, here))
+        self.runs = standing_runs(machine)
         choices = any_answers(machine.answers)
         pairs = [(here, there) for here in self.runs for there in self.runs]
         self.web = {pair: pair_steps(machine, machine, choices, pair) for pair in pairs}

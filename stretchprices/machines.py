@@ -152,7 +152,7 @@ def _unlike_steps(one, other, pair):
 
 def smallest(machine):
     """The machine with as few standings as possible that is alike to this one."""
-    order = list(earliest(0, lambda here: steps_at(machine, here)))
+    order = list(standing_runs(machine))
     kinds = _kinds(machine, order)
     # The standings come in the order of their earliest runs, so the first one of a kind gives the kind its number.
     first = {}
@@ -162,6 +162,11 @@ def smallest(machine):
     names = {here: number[kinds[here]] for here in order}
     moves = tuple([_renamed(machine.moves[first[kind]], names) for kind in first])
     return grown(machine.rows, machine.answers, moves)
+
+
+def standing_runs(machine):
+    """A dict from the standings to which runs lead to the earliest runs that lead there, in their order."""
+    return earliest(0, lambda here: steps_at(machine, here))
 
 
 def steps_at(machine, here):

@@ -21,7 +21,7 @@ def meter_ticks(machine):
 
 def reading(machine, meter, run):
     """What the meter goes on in a run."""
-    _check_meter(machine, meter)
+    check_meter(machine, meter)
     check_run(machine, run)
     total = 0
     here = 0
@@ -46,14 +46,14 @@ def meter_of(one, other):
 
 def mixture(machine, meter, meters):
     """Fractions of the meters that tell the meter up to a bound, as a tuple, or None."""
-    _check_meter(machine, meter)
+    check_meter(machine, meter)
     _check_meters(machine, meters)
     return _mixed(machine, meter, meters)
 
 
 def meter_lots(machine, meter, meters):
     """Two lots in which each of the meters reads the same and the meter does not, or None."""
-    _check_meter(machine, meter)
+    check_meter(machine, meter)
     _check_meters(machine, meters)
     found = pieces_of(machine, 1)
     _, reason = solve(round_equations(found, _teller(machine, meter, meters)))
@@ -64,14 +64,14 @@ def meter_lots(machine, meter, meters):
 
 def is_meter_lots(machine, meter, meters, thing):
     """Whether it is a pair of two lots in which each of the meters reads the same and the meter does not."""
-    _check_meter(machine, meter)
+    check_meter(machine, meter)
     _check_meters(machine, meters)
     return are_lots(thing, inner_steps(machine, 1), _teller(machine, meter, meters))
 
 
 def spread(machine, meter, meters, weights):
     """The least and the greatest of all readings of the meter less those of the meters times the weights, or None."""
-    _check_meter(machine, meter)
+    check_meter(machine, meter)
     _check_meters(machine, meters)
     _check_weights(meters, weights)
     bottom = 1
@@ -144,7 +144,7 @@ def _is_item(machine, item):
                 for turns in item])
 
 
-def _check_meter(machine, thing):
+def check_meter(machine, thing):
     """Raise the error for what is no meter of the machine."""
     if not _is_meter(machine, thing):
         raise NoMeter()

@@ -7,10 +7,15 @@ from stretchprices.books import book, is_lots
 from stretchprices.exact import exact, least_exact
 from stretchprices.leads import ahead, lead
 from stretchprices.machines import Machine, ticks
+from stretchprices.measured import sure
+from stretchprices.meters import meter_ticks
 from stretchprices.odd import odd
+from stretchprices.orders import quickest
+from stretchprices.programs import extremes
 from stretchprices.rates import one_number, rate
 from stretchprices.rigs import Rig, machine_of
 from stretchprices.stretches import stretches
+from stretchprices.turns import turns
 from stretchprices.webs import pieces, places
 
 m = Machine("ab", 1, ((((1, 0),), ((1, 1),)), (((2, 0),), ((1, 1),))))
@@ -64,6 +69,18 @@ class ExamplesTest(unittest.TestCase):
 
     def test_e11(self):
         self.assertIs(machine_of(Rig("ab", 1, (1, 1), (("gap", "b", "a", 1),))) == m, True)
+
+    def test_e12(self):
+        self.assertEqual(sure("ab", 1, [("aab", (4, 1)), ("ab", (3, 1))], "a"), ("sure", (1, 1), ((1, 1), (-1, 1))))
+
+    def test_e13(self):
+        self.assertEqual(extremes(m, (("times", 2, 3, (("rows", "ba"),)),)), (6, 9))
+
+    def test_e14(self):
+        self.assertEqual(turns(m, meter_ticks(m)), 1)
+
+    def test_e15(self):
+        self.assertEqual(quickest(m, "aba", []), (3, "aab"))
 
 
 if __name__ == "__main__":

@@ -14,8 +14,8 @@ METHODS = """append clear copy count endswith extend find get index insert isaln
 isupper items join keys ljust lower lstrip partition pop remove replace reverse rfind rjust rpartition rsplit rstrip
 setdefault split splitlines startswith strip update upper values zfill bit_length""".split()
 WORDS = """typing typing_extensions enum Enum IntEnum StrEnum Flag IntFlag Generic Protocol ABC ABCMeta namedtuple
-NamedTuple TypedDict TYPE_CHECKING abstractmethod type dataclass overload contextmanager _wall _WallAttr eval exec open
-input register elements law mro""".split()
+NamedTuple TypedDict TYPE_CHECKING abstractmethod type dataclass overload contextmanager _wall _WallAttr""".split()
+NAMES = "eval exec open input register elements law version_info with_traceback add_note mro".split()
 LIBRARY = {"math": {"gcd", "lcm", "isqrt", "comb"}, "itertools": {"product", "combinations", "permutations"},
            "heapq": {"heappush", "heappop"}}
 REFUSED = (ast.Global, ast.AsyncFunctionDef, ast.Await, ast.GeneratorExp, ast.Yield, ast.YieldFrom, ast.Div,
@@ -118,6 +118,8 @@ class LanguageTest(unittest.TestCase):
                     self.assertIn(node.comparators[0].value, (None, True, False))
             for word in WORDS:
                 self.assertIsNone(re.search(r"\b" + word + r"\b", ast.unparse(plain)), (name, word))
+            used = {getattr(node, field, None) for node in ast.walk(tree) for field in ("id", "attr", "arg", "name")}
+            self.assertEqual([word for word in NAMES if word in used], [], name)
 
     def test_calls(self):
         own = {node.name for _, tree in trees() for node in ast.walk(tree) if isinstance(node, ast.FunctionDef)}

@@ -3,6 +3,7 @@
 from stretchprices.errors import NoNumber
 
 LETTERS = "abcdefghijklmnopqrstuvwxyz"
+FIGURES = "0123456789"
 
 
 def is_integer(thing):
@@ -45,6 +46,16 @@ def is_width(thing):
 def is_code(thing, rows):
     """Whether it is a string of these rows, perhaps empty."""
     return isinstance(thing, str) and all([row in rows for row in thing])
+
+
+def is_word(thing):
+    """Whether it is a string of one or more letters."""
+    return is_code(thing, LETTERS) and thing != ""
+
+
+def is_figures(thing):
+    """Whether it is a string of one or more figures."""
+    return is_code(thing, FIGURES) and thing != ""
 
 
 def is_run(thing, rows, answers):

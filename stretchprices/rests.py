@@ -3,7 +3,7 @@
 from stretchprices.checks import is_integer, is_run, is_tuple
 from stretchprices.errors import NoLong, OtherRows
 from stretchprices.machines import check_run, walked
-from stretchprices.ratios import lowest, minus
+from stretchprices.ratios import NOTHING, lowest, minus
 from stretchprices.stretches import charged, first_tail, price, shared_bottom
 
 
@@ -12,6 +12,21 @@ def rest(machine, prices, run):
     check_same_rows(machine, prices)
     check_run(machine, run)
     return minus((walked(machine, 0, run)[0], 1), price(prices, run[0]))
+
+
+def rests_of(machine, prices, run):
+    """The list of the rests of all beginnings of what is known to be a run, the empty one first."""
+    tops, bottom = shared_bottom(prices)
+    here = 0
+    tail = first_tail(prices.width)
+    total = 0
+    found = [NOTHING]
+    for row, answer in zip(run[0], run[1]):
+        spent, here = walked(machine, here, (row, (answer,)))
+        paid, tail = charged(tops, prices.width, tail, row)
+        total += spent * bottom - paid
+        found.append(lowest(total, bottom))
+    return found
 
 
 def check_same_rows(machine, prices):

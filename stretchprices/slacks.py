@@ -32,8 +32,7 @@ class Slacks:
         return self._greatest([NOTHING for _ in self.chosen]) is not None
 
     def ends(self, part):
-        """The least and the greatest price of a code with these stretches, if prices can fit; None if there are none.
-        """
+        """The least and the greatest price of a code with these stretches where prices can fit, or None."""
         mixture = mixed(self.base, part)
         if mixture is None:
             return None

@@ -71,6 +71,11 @@ def _stretches_over(rows, width):
 def price(prices, code):
     """The sum of the prices of the code's stretches."""
     check_code(code, prices.rows)
+    return cost(prices, code)
+
+
+def cost(prices, code):
+    """The same of what is known to be a code over the rows."""
     tops, bottom = shared_bottom(prices)
     total, _ = charged(tops, prices.width, first_tail(prices.width), code)
     return lowest(total, bottom)

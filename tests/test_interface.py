@@ -33,7 +33,32 @@ INTERFACE = {
         mixture(machine, meter, meters) meter_lots(machine, meter, meters)
         is_meter_lots(machine, meter, meters, thing) spread(machine, meter, meters, weights)
         least_meters(machine, meters)""",
+    "turns": "turns(machine, meter) rests(machine, meter, m) parting_rests(machine, meter, m)",
+    "measured": """fitting(rows, width, measures) clash(rows, width, measures) sure(rows, width, measures, code)
+        between(rows, width, measures, slack, code) is_side(rows, width, measures, slack, code, bound, weights)
+        enough_codes(rows, width, codes)""",
+    "programs": """extremes(machine, program) price_extremes(prices, program)
+        told_extremes(machine, prices, program) does(rows, program, code)""",
+    "orders": """orders(code, befores) worst(machine, code) quickest(machine, code, befores)
+        cheapest(prices, code, befores) waste(machine, prices, code, befores)""",
+    "texts": "machine_text(machine) prices_text(prices)",
+    "reading": "read_machine(text) read_prices(text)",
+    "bench": "Bench(machine, prices)",
+    "desk": "Desk()",
 }
+METHODS = {
+    ("bench", "Bench"): """put(row, answer) insert(place, row, answer) strike(place) turn(place, answer) run() ticks()
+        price() rest() rests() back() depth() lowest() trying(action) copy()""",
+    ("desk", "Desk"): "tell(line) undoable()",
+}
+
+
+def told_items(told):
+    """The pairs of a name and the list of its arguments."""
+    for item in told.replace(")", ")\n").splitlines():
+        name, _, arguments = item.strip().rstrip(")").partition("(")
+        if name:
+            yield name, arguments.split(", ") if arguments else []
 
 
 class InterfaceTest(unittest.TestCase):
@@ -43,17 +68,20 @@ class InterfaceTest(unittest.TestCase):
             module = importlib.import_module("stretchprices." + file)
             tree = ast.parse((FOLDER / (file + ".py")).read_text(encoding="utf-8"))
             defined = {node.name for node in tree.body if isinstance(node, (ast.FunctionDef, ast.ClassDef))}
-            for item in told.replace(")", ")\n").splitlines():
-                name, _, arguments = item.strip().rstrip(")").partition("(")
-                if name:
-                    self.assertIn(name, defined, file)
-                    parameters = list(inspect.signature(getattr(module, name)).parameters)
-                    self.assertEqual(parameters, arguments.split(", "), (file, name))
+            for name, arguments in told_items(told):
+                self.assertIn(name, defined, file)
+                parameters = list(inspect.signature(getattr(module, name)).parameters)
+                self.assertEqual(parameters, arguments, (file, name))
 
     def test_methods_stand_in_their_classes(self):
         for file, name in (("machines", "Machine"), ("rigs", "Rig"), ("stretches", "Prices")):
             made = getattr(importlib.import_module("stretchprices." + file), name)
             self.assertIn("__eq__", vars(made))
+        for (file, name), told in METHODS.items():
+            made = getattr(importlib.import_module("stretchprices." + file), name)
+            for method, arguments in told_items(told):
+                self.assertIn(method, vars(made))
+                self.assertEqual(list(inspect.signature(vars(made)[method]).parameters), ["self"] + arguments)
 
 
 if __name__ == "__main__":

@@ -111,5 +111,5 @@ def _fraction_of(word):
 
 
 def _is_number(word, most):
-    """Whether a word is a number of at most so many figures."""
-    return is_figures(word) and len(word) <= most
+    """Whether a word is a number of at most so many figures, without needless zeros ahead."""
+    return is_figures(word) and len(word) <= most and (word == "0" or word[0] != "0")

@@ -243,10 +243,13 @@ class ErrorsTest(Checks):
             for text, line in ((" ", 1), ("  ", 1), ("|", 1), ("x", 1), (" " + ONE, 1), (ONE[:-1], 3), (ONE + "|", 4),
                                (ONE + " ", 4), (ONE + "at 1|", 5), ("machine a 1|", 2), ("machine a 1|at 1|a 1 0|", 2),
                                ("prices ab 1|a 0|b 0|", 1), (ONE.replace("|", "||", 1), 2),
-                               ("machine a 1|at 0|a 1 0 0|", 3)):
+                               ("machine a 1|at 0|a 1 0 0|", 3), ("machine a 1|at 00|a 1 0|", 2),
+                               ("machine a 1|at 0|a 01 0|", 3), ("machine a 1|at 0|a 1 00|", 3)):
                 self.refused(desk, f"machine {name} {text}", "BadText", line=line)
             for text, line in ((" ", 1), ("|", 1), ("prices ab 1|", 2), ("prices ab 1|b 0|a 0|", 3), (ONE, 1),
-                               ("prices ab 1|a 0|b 0", 3), ("prices ab 1|a 0|b 0||", 4), ("prices ab 1|a 1/1|b 0|", 2)):
+                               ("prices ab 1|a 0|b 0", 3), ("prices ab 1|a 0|b 0||", 4), ("prices ab 1|a 1/1|b 0|", 2),
+                               ("prices ab 1|a 00|b 0|", 2), ("prices ab 1|a 0|b -01/2|", 3),
+                               ("prices ab 1|a 0|b 1/02|", 3), ("prices x 2|^x 09|xx -10|", 2)):
                 self.refused(desk, f"prices {name} {text}", "BadText", line=line)
             for text, part in (("machine aa 1|at 0|a 1 0|a 1 0|", "rows"),
                                ("machine a 4|at 0|a" + " 1 0" * 4 + "|", "answers"),

@@ -185,16 +185,31 @@ class MachineTest(Reading):
                 for word in ("9" * 9, "1" * 9, "100", "12"):
                     if at % 2 == 0 or word != "12":
                         self.check_bad(read_machine, text(word), "moves")
-                for word in ("0", "000"):
-                    if at % 2:
-                        self.check_bad(read_machine, text(word), "moves")
+                if at % 2:
+                    self.check_bad(read_machine, text("0"), "moves")
 
-    def test_needless_zeros_are_let(self):
-        # They count as figures: at most 9 of them.
-        lines = ["machine ab 2", "at 00", "a 01 00 002 1", "b 3 000000001 4 0", "at 000000001", "a 5 0 6 0",
-                 "b 000000007 1 099 1"]
-        self.assertEqual(read_machine(text_of(lines)), read_machine(text_of(MACHINE)))
-        self.check_wrong(read_machine, changed(lines, 2, "at " + "0" * 10), 2)
+    def test_needless_zeros(self):
+        # Ahead of each number, standings, ticks and goals, also of those that are 0.
+        for number in range(2, 8):
+            words = MACHINE[number - 1].split(" ")
+            for at in range(1, len(words)):
+                for zeros in ("0", "00", "0" * (9 - len(words[at])), "0" * 9):
+                    line = " ".join(words[:at] + [zeros + words[at]] + words[at + 1:])
+                    self.check_wrong(read_machine, changed(MACHINE, number, line), number)
+        # The first such line is named, ahead of later lines and of what the machine lacks.
+        self.check_wrong(read_machine, text_of(["machine ba 9", "at 00", "b"]), 2)
+        self.check_wrong(read_machine, changed(MACHINE[:6], 3, "a 00 0 2 09") + "a", 3)
+        lines = ["machine stu 3", "at 0", "s 97 0 040 0 28 0", "t 49 0 95 0 26 0", "u 22 0 64 0 94 0"]
+        self.check_wrong(read_machine, text_of(lines), 3)
+
+    def test_zeros_that_are_needed(self):
+        lines = ["machine a 1"]
+        for here in range(12):
+            lines += [f"at {here}", f"a {10 * (here % 9 + 1)} {(here + 10) % 12}"]
+        self.assertEqual(read_machine(text_of(lines)).moves,
+                         tuple((((10 * (here % 9 + 1), (here + 10) % 12),),) for here in range(12)))
+        for number in (22, 24):
+            self.check_wrong(read_machine, changed(lines, number, f"at 0{number // 2 - 1}"), number)
 
     def test_bad_machines(self):
         self.check_bad(read_machine, changed(MACHINE, 3, "a 0 0 2 1"), "moves")
@@ -303,11 +318,23 @@ class PricesTest(Reading):
                                ("1/" + "9" * 60, (1, 10 ** 60 - 1)), ("-2/" + "9" * 60, (-2, 10 ** 60 - 1))):
             self.assertEqual(read_prices(changed(PRICES, 4, "aa " + word)).table["aa"], fraction)
 
-    def test_needless_zeros_are_let(self):
-        for word, fraction in (("00", (0, 1)), ("007", (7, 1)), ("-07", (-7, 1)), ("03/02", (3, 2)),
-                               ("0" * 59 + "3", (3, 1)), ("1/" + "0" * 59 + "2", (1, 2))):
+    def test_needless_zeros(self):
+        for number in range(2, 8):
+            stretch = PRICES[number - 1].split(" ")[0]
+            for word in ("00", "000", "0" * 60, "007", "010", "-07", "-00", "-010", "03/2", "-03/2", "3/02", "-3/02",
+                         "03/02", "00/2", "1/00", "1/010", "0" * 59 + "3", "-" + "0" * 59 + "3", "1/" + "0" * 59 + "2",
+                         "1/" + "0" * 60, "02/04"):
+                self.check_wrong(read_prices, changed(PRICES, number, f"{stretch} {word}"), number)
+        # The first such line is named, ahead of later lines and of what the prices lack.
+        self.check_wrong(read_prices, text_of(["prices ba 9", "b 01", "a 01"]), 2)
+        self.check_wrong(read_prices, "prices x 2\n^x 09\nxx -10\n", 2)
+        self.check_wrong(read_prices, "prices x 2\n^x 9\nxx -010\n", 3)
+
+    def test_zeros_that_are_needed(self):
+        for word, fraction in (("0", (0, 1)), ("10", (10, 1)), ("-100", (-100, 1)), ("10/3", (10, 3)),
+                               ("3/10", (3, 10)), ("-1/200", (-1, 200)), ("1" + "0" * 59, (10 ** 59, 1)),
+                               ("1/1" + "0" * 59, (1, 10 ** 59))):
             self.assertEqual(read_prices(changed(PRICES, 4, "aa " + word)).table["aa"], fraction)
-        self.check_wrong(read_prices, changed(PRICES, 4, "aa 1/" + "0" * 60), 4)
 
     def test_lowest_terms(self):
         for word in ("2/4", "0/2", "-3/9", "6/3", MANY + "/" + MANY, "-2/2"):
